@@ -1,0 +1,1 @@
+"""Totalround: a fixed round of reading, with breaks and totals."""
