@@ -138,6 +138,14 @@ class Language(unittest.TestCase):
             read = {node.id for node in ast.walk(tree) if isinstance(node, ast.Name)}
             self.assertEqual((read & known) - BUILTINS, set(), file.name)
 
+    def test_no_local_name_is_that_of_a_class_or_an_import(self):
+        for file, tree in self.each_tree():
+            held = {top.name for top in tree.body if isinstance(top, ast.ClassDef)}
+            held |= {alias.name for top in tree.body if isinstance(top, ast.ImportFrom) for alias in top.names}
+            for node in ast.walk(tree):
+                if isinstance(node, ast.FunctionDef):
+                    self.assertEqual(set(bound_names(node)) & held, set(), f"{file.name}:{node.lineno}")
+
     def test_methods(self):
         own = {node.name for _, node in self.each_node(ast.FunctionDef)}
         for place, node in self.each_node(ast.Call):

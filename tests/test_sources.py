@@ -1,22 +1,9 @@
 import unittest
 
-from tests.things import odd_but
+from tests.things import number, odd_but, text, wide
 from totalround.errors import NoRecord, NoSource
 from totalround.shapes import Shape
-from totalround.sources import Source, cut_by, key_of, shape_of
-
-
-def text(name, column, length=2):
-    return (name, column, length, "text")
-
-
-def number(name, column, length=3):
-    return (name, column, length, "number")
-
-
-def wide(signs):
-    return signs.ljust(60)
-
+from totalround.sources import Source, cut_by, is_source, key_of, shape_of
 
 HEAD = Shape("head", (1, "h"), (text("day", 2), number("no", 4)))
 ITEM = Shape("item", (1, "i"), (number("no", 10), number("qty", 20), text("day", 30)))
@@ -143,6 +130,22 @@ class Keys(SourceCase):
         for thing in odd_but():
             self.refused("s", (HEAD,), by=(thing,))
             self.refused("s", (HEAD,), by=("no", thing))
+
+
+class Still(unittest.TestCase):
+    def test_sources(self):
+        for source in (BOOK, LOOSE, Source("s", (REST,))):
+            self.assertIs(is_source(source), True)
+
+    def test_other_things(self):
+        for thing in odd_but() + [("loose", (HEAD, NOTE), ()), HEAD, Source]:
+            self.assertIs(is_source(thing), False)
+
+    def test_one_that_is_none_any_more(self):
+        for part, worth in (("name", "BOOK"), ("shapes", [HEAD]), ("by", ("words",)), ("by", None)):
+            source = Source("book", (HEAD,), by=("no",))
+            setattr(source, part, worth)
+            self.assertIs(is_source(source), False)
 
 
 class Equality(unittest.TestCase):

@@ -1,4 +1,4 @@
-"""Things of all kinds that the tests hand in where something else belongs."""
+"""What the tests hand in: fields, records, and things of all kinds where something else belongs."""
 
 
 class Agreeable:
@@ -21,3 +21,18 @@ ODD = (
 def odd_but(*kinds):
     """The odd things that are of none of these kinds."""
     return [thing for thing in ODD if not isinstance(thing, kinds)]
+
+
+def text(name, column, length=2):
+    """A text field."""
+    return (name, column, length, "text")
+
+
+def number(name, column, length=3):
+    """A number field."""
+    return (name, column, length, "number")
+
+
+def wide(signs):
+    """The record that begins with these signs."""
+    return signs.ljust(60)

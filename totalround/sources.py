@@ -43,11 +43,16 @@ def are_keys(by, shapes):
     return all([count in (0, len(by)) for count in counts]) and len(by) in counts
 
 
+def are_source_parts(name, shapes, by):
+    """Whether a source may be made of these."""
+    return is_name(name) and are_shapes(shapes) and are_keys(by, shapes)
+
+
 class Source:
     """A place of records: its name, its shapes and the names of its keys."""
 
     def __init__(self, name, shapes, *, by=()):
-        if not is_name(name) or not are_shapes(shapes) or not are_keys(by, shapes):
+        if not are_source_parts(name, shapes, by):
             raise NoSource("these make no source")
         self.name = name
         # Shapes of its own, so that one handed in may be changed later.
@@ -57,6 +62,11 @@ class Source:
     def __eq__(self, other):
         return (isinstance(other, Source) and self.name == other.name
                 and self.shapes == other.shapes and self.by == other.by)
+
+
+def is_source(thing):
+    """Whether this is a source, and still one: its parts may have been changed since it was made."""
+    return isinstance(thing, Source) and are_source_parts(thing.name, thing.shapes, thing.by)
 
 
 def first_fitting(source, record):
@@ -78,10 +88,14 @@ def cut_by(source, record):
     return shape.name, cut(shape, record)
 
 
-def key_of(source, record):
-    """The worths of the record's keys, None of a loose record."""
-    worths = cut_by(source, record)[1]
+def key_in(source, worths):
+    """The worths of the source's keys among these of a record, None of a loose record."""
     # A shape has fields of all keys or of none, so the first one tells.
     if source.by == () or source.by[0] not in worths:
         return None
     return tuple([worths[key] for key in source.by])
+
+
+def key_of(source, record):
+    """The worths of the record's keys, None of a loose record."""
+    return key_in(source, cut_by(source, record)[1])

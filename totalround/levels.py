@@ -1,0 +1,30 @@
+"""Levels: what breaks from one record to the next."""
+
+from totalround.merging import readings
+
+
+def has_levels(levels, worths):
+    """Whether there is a worth for each level."""
+    return all([level in worths for level in levels])
+
+
+def breaks(levels, ahead, now):
+    """The number of the highest level that breaks between these worths, 0 of none."""
+    if not has_levels(levels, now):
+        return 0
+    if ahead is None:
+        return len(levels)
+    changed = [k for k, level in enumerate(levels, start=1) if ahead.get(level) != now[level]]
+    return max(changed, default=0)
+
+
+def broken(sources, rows, levels):
+    """What breaks tells of each record, in the order of reading."""
+    told = []
+    ahead = None
+    for reading in readings(sources, rows):
+        now = reading[4]
+        told.append(breaks(levels, ahead, now))
+        if has_levels(levels, now):
+            ahead = now
+    return told
