@@ -186,6 +186,16 @@ class Refused(unittest.TestCase):
                 broken((source,), rows, levels)
             self.assertEqual((caught.exception.name, caught.exception.at), ("a", 2))
 
+    def test_the_first_row_at_fault(self):
+        source = Source("a", (SALE, NOTE), by=("year",))
+        rows = {"a": [sale("mo", "ja", 2), sale("mo", "ja", 1), None]}
+        with self.assertRaises(NoOrder) as caught:
+            broken((source,), rows, THREE)
+        self.assertEqual((caught.exception.name, caught.exception.at), ("a", 1))
+        with self.assertRaises(NoRecord) as caught:
+            broken((source,), {"a": rows["a"][::-1]}, THREE)
+        self.assertEqual(caught.exception.name, "a/")
+
 
 if __name__ == "__main__":
     unittest.main()

@@ -431,13 +431,25 @@ class Refused(unittest.TestCase):
         self.no_record("a/", (A, B), {"a": [item(1), None, bad], "b": [part("x")]})
         self.no_record("b/id", (A, B, C), {"a": [item(1)], "b": [part("x")], "c": [None]})
 
-    def test_a_record_goes_ahead_of_an_order(self):
+    def test_a_key_falls_ahead_of_a_later_record_that_is_none(self):
         falls = [item(2), item(1)]
-        self.no_record("b/id", (A, B), {"a": falls, "b": [part("x")]})
-        self.no_record("b/", (A, B), {"a": falls, "b": [part(1), None]})
-        self.no_record("a/qty", (A, B), {"a": [*falls, item(3, "x")]})
-        self.no_record("a/qty", (A, B), {"a": [item(2), item(1, "x")]})
+        for later in (part("x"), None, wide("i")):
+            self.no_order("a", 1, (A, B), {"a": falls, "b": [part(1), later]})
+            self.no_record("b/id" if later == part("x") else "b/", (B, A), {"a": falls, "b": [part(1), later]})
+        for later in (item(3, "x"), item("x"), None, wide("x")):
+            self.no_order("a", 1, (A, B), {"a": [*falls, later], "b": [part("x")]})
+            self.no_order("a", 2, (A, B), {"a": [NOTED, *falls, NOTED, later]})
+
+    def test_a_record_that_is_none_ahead_of_a_key_that_falls(self):
+        falls = [item(2), item(1)]
         self.no_record("a/", (A, B), {"a": [None, *falls], "b": [part(2), part(1)]})
+        self.no_record("a/", (A,), {"a": [item(2), None, item(1)]})
+        self.no_record("a/qty", (A, B), {"a": [item(2, "x"), item(1)], "b": [part(2), part(1)]})
+        self.no_record("a/qty", (A, B), {"a": [item(2), item(3, "x")], "b": [part(2), part(1)]})
+
+    def test_the_record_itself_goes_ahead_of_its_key(self):
+        self.no_record("a/qty", (A,), {"a": [item(2), item(1, "x")]})
+        self.no_record("a/no", (A,), {"a": [item(2), item("x")]})
 
     def test_where_a_key_falls(self):
         self.no_order("a", 1, (A,), {"a": [item(2), item(1)]})

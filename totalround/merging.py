@@ -40,40 +40,40 @@ def is_sources(thing):
     return have_fields_alike(all_shapes(thing)) and have_keys_alike(thing)
 
 
-def cut_rows(source, records):
-    """For each of the source's records its shape's name and its worths."""
-    cuts = []
-    for record in records:
-        try:
-            cuts.append(cut_by(source, record))
-        except NoRecord as error:
-            raise NoRecord(f"{source.name}/{error.name}") from None
-    return cuts
-
-
-def cut_all(sources, rows):
-    """For each source what cut_rows tells of its records."""
+def refuse_no_sources(sources):
+    """Refuse what is no sources."""
     if not is_sources(sources):
         raise NoSource("these are no sources")
-    return [cut_rows(source, rows.get(source.name, [])) for source in sources]
 
 
-def ranks_of(source, cuts):
-    """For each of the source's records its key, () of a loose one."""
-    keys = [key_in(source, worths) for _, worths in cuts]
-    # () is less than every key, so that of the next records a loose one is the least.
-    return [() if key is None else key for key in keys]
+def cut_row(source, record):
+    """The record's shape's name and its worths; a refusal tells the source, too."""
+    try:
+        return cut_by(source, record)
+    except NoRecord as error:
+        raise NoRecord(f"{source.name}/{error.name}") from None
 
 
-def refuse_falls(name, ranks):
-    """Refuse the first key of this source that is less than the one ahead of it."""
+def read_row(source, record, last, at):
+    """The shape's name, the worths and the rank of the source's record at this number, behind one of the last rank."""
+    shape, worths = cut_row(source, record)
+    key = key_in(source, worths)
+    # A loose one has (), less than every key, so that of the next records a loose one is the least.
+    rank = () if key is None else key
+    if rank != () and rank < last:
+        raise NoOrder(source.name, at)
+    return shape, worths, rank
+
+
+def read_rows(source, records):
+    """What read_row tells of each of the source's records."""
+    told = []
     last = ()
-    for at, rank in enumerate(ranks):
-        if rank == ():
-            continue
-        if rank < last:
-            raise NoOrder(name, at)
-        last = rank
+    for at, record in enumerate(records):
+        row = read_row(source, record, last, at)
+        told.append(row)
+        last = row[2] or last
+    return told
 
 
 def matching_keys(sources, ranks):
@@ -103,15 +103,15 @@ def turns(ranks):
 
 def readings(sources, rows):
     """What ordered tells of each record, with its worths behind it."""
-    cuts = cut_all(sources, rows)
-    ranks = [ranks_of(source, pairs) for source, pairs in zip(sources, cuts)]
-    for source, queue in zip(sources, ranks):
-        refuse_falls(source.name, queue)
+    refuse_no_sources(sources)
+    # Each row is looked at by itself ahead of the next one, so that the first at fault is refused.
+    queues = [read_rows(source, rows.get(source.name, [])) for source in sources]
+    ranks = [[rank for _, _, rank in queue] for queue in queues]
     matching = matching_keys(sources, ranks)
     told = []
     for which, at in turns(ranks):
-        shape, worths = cuts[which][at]
-        told.append((sources[which].name, at, shape, ranks[which][at] in matching, worths))
+        shape, worths, rank = queues[which][at]
+        told.append((sources[which].name, at, shape, rank in matching, worths))
     return told
 
 
