@@ -18,13 +18,18 @@ def breaks(levels, ahead, now):
     return max(changed, default=0)
 
 
-def broken(sources, rows, levels):
-    """What breaks tells of each record, in the order of reading."""
-    told = []
+def heights(told, levels):
+    """What breaks tells of each of these readings."""
+    found = []
     ahead = None
-    for reading in readings(sources, rows):
+    for reading in told:
         now = reading[4]
-        told.append(breaks(levels, ahead, now))
+        found.append(breaks(levels, ahead, now))
         if has_levels(levels, now):
             ahead = now
-    return told
+    return found
+
+
+def broken(sources, rows, levels):
+    """What breaks tells of each record, in the order of reading."""
+    return heights(readings(sources, rows), levels)
