@@ -3,9 +3,14 @@
 from totalround.merging import readings
 
 
-def has_levels(levels, worths):
-    """Whether there is a worth for each level."""
-    return all([level in worths for level in levels])
+def has_levels(levels, names):
+    """Whether each level is one of these names."""
+    return all([level in names for level in levels])
+
+
+def is_levelled(levels, names):
+    """Whether a shape is levelled that has fields of these names."""
+    return levels != () and has_levels(levels, names)
 
 
 def breaks(levels, ahead, now):

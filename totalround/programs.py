@@ -179,6 +179,12 @@ class Program:
                 and self.steps == other.steps and self.lines == other.lines)
 
 
+def is_program(thing):
+    """Whether this is a program, and still one: its parts may have been changed since it was made."""
+    return isinstance(thing, Program) and are_program_parts(
+        thing.sources, thing.levels, thing.boxes, thing.flags, thing.steps, thing.lines)
+
+
 def cells(program):
     """The names of all number fields, in the order of sources, shapes and fields, each once."""
     return field_names(program.sources, "number")
@@ -187,3 +193,9 @@ def cells(program):
 def word_cells(program):
     """The names of all text fields, in the order of sources, shapes and fields, each once."""
     return field_names(program.sources, "text")
+
+
+def number_fields(program):
+    """For each shape the names of its number fields, in order."""
+    return {shape.name: [field[0] for field in shape.fields if field[3] == "number"]
+            for shape in all_shapes(program.sources)}

@@ -1,7 +1,7 @@
 """Reports: the sum and the count of each group of levels."""
 
 from totalround.errors import NoProgram
-from totalround.levels import has_levels
+from totalround.levels import is_levelled
 from totalround.merging import all_shapes, is_sources, readings
 from totalround.programs import LEVEL_INDICATORS, Program, are_levels, field_names
 from totalround.shapes import is_number
@@ -29,8 +29,8 @@ def step_added(time, indicator, box, name):
 
 def record_steps(shape, levels, cell, boxes, flag):
     """What is done for each record of the shape: nothing where it isn't levelled."""
-    names = {field[0]: True for field in shape.fields}
-    if not has_levels(levels, names):
+    names = [field[0] for field in shape.fields]
+    if not is_levelled(levels, names):
         return []
     steps = [("detail", ((shape.name, True),), ("on", flag))]
     if cell in names:
@@ -75,7 +75,7 @@ def report(sources, levels, cell, *, prefix=""):
 def levelled_worths(sources, rows, levels):
     """The worths of the levelled records, in the order of reading."""
     told = [reading[4] for reading in readings(sources, rows)]
-    return [worths for worths in told if levels != () and has_levels(levels, worths)]
+    return [worths for worths in told if is_levelled(levels, worths)]
 
 
 def parted(held, levels):
@@ -110,4 +110,5 @@ def grouped(sources, rows, levels, cell):
 
 def group_keys(sources, rows, levels, k):
     """The worths of levels k and up of each group of level k, in order."""
-    return [key for key, _ in parted(levelled_worths(sources, rows, levels), levels[k - 1:])]
+    upper = [level for number, level in enumerate(levels, start=1) if number >= k]
+    return [key for key, _ in parted(levelled_worths(sources, rows, levels), upper)]

@@ -1,8 +1,8 @@
 """Shares: how often each record's cell counts in each number that is told."""
 
 from totalround.errors import NoEven, NoRecord
-from totalround.merging import all_shapes, cut_row, refuse_no_sources
-from totalround.programs import cells
+from totalround.merging import cut_row, refuse_no_sources
+from totalround.programs import cells, number_fields
 from totalround.rounds import trace
 from totalround.shapes import is_number
 
@@ -27,12 +27,6 @@ class Ledger:
 def is_plain(program):
     """Whether no step is a times."""
     return all([deed[0] != "times" for _, _, deed in program.steps])
-
-
-def number_fields(program):
-    """For each shape the names of its number fields."""
-    return {shape.name: [field[0] for field in shape.fields if field[3] == "number"]
-            for shape in all_shapes(program.sources)}
 
 
 def add_times(form, times, other):
